@@ -1,0 +1,1 @@
+"""Classes of rows told by their unbroken shapes, what bars them, how many they are."""
