@@ -79,3 +79,8 @@ def taken_out(row, place):
     if not is_within(place, 0, len(row) - 1):
         raise NoPlaces("no place of the row")
     return shape_at(row, tuple([other for other in range(len(row)) if other != place]))
+
+
+def by_sizes(rows):
+    """The rows, each once, in the order of sizes: a new list."""
+    return [row for size, row in sorted({(len(row), row) for row in rows})]

@@ -27,6 +27,16 @@ BARRED_NAMES = set("""
     help id importlib license locals methodcaller os quit setattr type vars sys
 """.split())
 
+METHODS = set("""
+    append clear copy count endswith extend find get index insert isalnum isalpha isdigit islower isspace isupper items
+    join keys ljust lower lstrip partition pop remove replace reverse rfind rjust rpartition rsplit rstrip setdefault
+    split splitlines startswith strip update upper values zfill bit_length add discard sort
+""".split())
+
+# What may be handed a set that is written on the spot; and what is iterated on the spot, not stored.
+TAKE_SETS = ("sorted", "len")
+NOT_STORED = ("range", "zip", "enumerate", "reversed")
+
 BARRED_NODES = (
     ast.Global, ast.AsyncFunctionDef, ast.AsyncFor, ast.AsyncWith, ast.Await, ast.Import, ast.Div, ast.MatMult,
 )
@@ -152,6 +162,28 @@ class CodeTest(unittest.TestCase):
                      for name in bound_names(row)]
             bound += [row.name for row in tree.body if isinstance(row, (ast.FunctionDef, ast.ClassDef))]
             self.assertEqual(len(bound), len(set(bound)), name)
+
+    def test_l23_nothing_iterated_is_stored(self):
+        for name, node in nodes((ast.Assign, ast.Return)):
+            if isinstance(node.value, ast.Call) and isinstance(node.value.func, ast.Name):
+                self.assertNotIn(node.value.func.id, NOT_STORED, (name, node.lineno))
+
+    def test_l24_sets_stand_where_they_may(self):
+        for name, tree in trees():
+            held = set()
+            for node in ast.walk(tree):
+                if isinstance(node, ast.Call) and isinstance(node.func, ast.Name) and node.func.id in TAKE_SETS:
+                    held.update(node.args)
+                elif isinstance(node, ast.Compare):
+                    held.update(node.comparators)
+                elif isinstance(node, ast.SetComp):
+                    self.assertIn(node, held, (name, node.lineno))
+
+    def test_l25_methods(self):
+        for name, node in nodes(ast.Call):
+            if isinstance(node.func, ast.Attribute):
+                self.assertIn(node.func.attr, METHODS, (name, node.lineno))
+                self.assertFalse(node.keywords, (name, node.lineno))
 
     def test_l20_is(self):
         for name, node in nodes(ast.Compare):

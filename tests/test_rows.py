@@ -5,23 +5,12 @@ import unittest
 
 from knotlessrows.errors import NoPlaces, RowError
 from knotlessrows.rows import aside, backward, is_row, put_in, shape_at, taken_out, upside
+from tests.asking import Asking
 from tests.refusing import Refusing
-from tests.things import BIG, no_tuples, no_wholes, tuples_of_others
+from tests.slow import rows_to, shape_of
+from tests.things import BIG, FORTY, MIXED_FORTY, no_tuples, no_wholes, tuples_of_others
 
-FORTY = tuple(range(1, 41))
-# Each number once, with no two neighbours in worth side by side.
-MIXED_FORTY = tuple((7 * place) % 41 for place in range(1, 41))
 MIXED_39 = tuple((7 * place) % 40 for place in range(1, 40))
-
-
-def rows_to(most):
-    for size in range(1, most + 1):
-        yield from itertools.permutations(range(1, size + 1))
-
-
-def slow_shape(numbers):
-    """Each number told by how many are not greater."""
-    return tuple(sum(1 for other in numbers if other <= number) for number in numbers)
 
 
 class IsRowTest(unittest.TestCase):
@@ -101,7 +90,7 @@ class ShapeAtTest(Refusing, unittest.TestCase):
         for row in rows_to(5):
             for many in range(1, len(row) + 1):
                 for places in itertools.combinations(range(len(row)), many):
-                    self.assertEqual(shape_at(row, places), slow_shape([row[place] for place in places]))
+                    self.assertEqual(shape_at(row, places), shape_of([row[place] for place in places]))
 
     def test_all_places_at_once(self):
         for row in [(1,), (2, 1), (3, 5, 1, 4, 2), FORTY, MIXED_FORTY]:
@@ -109,7 +98,7 @@ class ShapeAtTest(Refusing, unittest.TestCase):
 
     def test_a_row_of_forty(self):
         for places in [(0,), (39,), (0, 39), (5, 17, 38), tuple(range(0, 40, 2)), tuple(range(39))]:
-            self.assertEqual(shape_at(MIXED_FORTY, places), slow_shape([MIXED_FORTY[place] for place in places]))
+            self.assertEqual(shape_at(MIXED_FORTY, places), shape_of([MIXED_FORTY[place] for place in places]))
 
     def test_places_beyond_the_row(self):
         for row in [(1,), (2, 1), (3, 5, 1, 4, 2), MIXED_FORTY]:
@@ -148,7 +137,7 @@ class PutInTest(Refusing, unittest.TestCase):
         # Halves between the numbers: the put-in one stands just below those from it on.
         doubled = [2 * other for other in row]
         doubled.insert(place, 2 * number - 1)
-        return slow_shape(doubled)
+        return shape_of(doubled)
 
     def test_examples(self):
         self.assertEqual(put_in((2, 1), 1, 2), (3, 2, 1))
@@ -210,7 +199,7 @@ class TakenOutTest(Refusing, unittest.TestCase):
                 continue
             for place in range(len(row)):
                 left = row[:place] + row[place + 1:]
-                self.assertEqual(taken_out(row, place), slow_shape(left))
+                self.assertEqual(taken_out(row, place), shape_of(left))
                 if len(row) < 40 or place in (0, 20, 39):
                     self.assertEqual(put_in(taken_out(row, place), place, row[place]), row)
 
@@ -244,42 +233,19 @@ class RefusalTest(unittest.TestCase):
                     function(*handed)
 
 
-class AskedAgainTest(Refusing, unittest.TestCase):
+class AskedAgainTest(Asking, unittest.TestCase):
 
     QUESTIONS = [
-        (is_row, (2, 1)), (is_row, [2, 1]), (backward, (2, 3, 1)), (upside, (2, 3, 1)), (aside, (2, 3, 1)),
-        (shape_at, (3, 5, 1, 4, 2), (0, 1, 3)), (put_in, (2, 1), 1, 2), (taken_out, (3, 5, 1, 4, 2), 2),
+        (is_row, (2, 1)), (is_row, [2, 1]), (is_row, ([0], [1, [2]])), (backward, (2, 3, 1)), (upside, (2, 3, 1)),
+        (aside, (2, 3, 1)), (shape_at, (3, 5, 1, 4, 2), (0, 1, 3)), (put_in, (2, 1), 1, 2),
+        (taken_out, (3, 5, 1, 4, 2), 2),
     ]
     REFUSED = [
-        (shape_at, (3, 5, 1, 4, 2), [0, 1, 3]), (put_in, (2, 1), 3, 2), (put_in, (2, 1), 1, 4),
-        (taken_out, (3, 5, 1, 4, 2), 5), (taken_out, (1,), 0),
+        (NoPlaces, shape_at, (3, 5, 1, 4, 2), [0, 1, 3]), (NoPlaces, put_in, (2, 1), 3, 2),
+        (NoPlaces, put_in, (2, 1), 1, 4), (NoPlaces, taken_out, (3, 5, 1, 4, 2), 5), (NoPlaces, taken_out, (1,), 0),
+        (NoPlaces, shape_at, (2, 1, 3), ([0], [1, [2]])), (NoPlaces, put_in, (2, 1, 3), [1, 0], [2]),
+        (NoPlaces, taken_out, (2, 1, 3), [1, 0]),
     ]
-
-    def told(self):
-        return [function(*handed) for function, *handed in self.QUESTIONS]
-
-    def test_behind_others_alike(self):
-        first = self.told()
-        for function, *handed in reversed(self.QUESTIONS):
-            function(*handed)
-        self.assertEqual(self.told(), first)
-
-    def test_behind_refused_ones_alike(self):
-        first = self.told()
-        for function, *handed in self.REFUSED:
-            for _ in range(2):
-                self.assert_refused(NoPlaces, function, *handed)
-            self.assertEqual(self.told(), first)
-
-    def test_what_is_handed_in_stays(self):
-        numbers, places, deep = [2, 1, 3], [1, 0], ([0], [1, [2]])
-        self.assertIs(is_row(numbers), False)
-        self.assertIs(is_row(deep), False)
-        for thing in (numbers, places, deep):
-            self.assert_refused(NoPlaces, shape_at, (2, 1, 3), thing)
-            self.assert_refused(NoPlaces, put_in, (2, 1, 3), thing, thing)
-            self.assert_refused(NoPlaces, taken_out, (2, 1, 3), thing)
-        self.assertEqual((numbers, places, deep), ([2, 1, 3], [1, 0], ([0], [1, [2]])))
 
 
 if __name__ == "__main__":

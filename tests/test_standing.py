@@ -6,13 +6,10 @@ import unittest
 from knotlessrows.errors import NoPlaces
 from knotlessrows.rows import shape_at
 from knotlessrows.standing import stands
-from tests.refusing import Refusing
+from tests.asking import Asking
+from tests.slow import rows_of
 
 TWELVE = (5, 10, 2, 7, 12, 1, 8, 4, 11, 3, 9, 6)
-
-
-def rows_of(size):
-    return itertools.permutations(range(1, size + 1))
 
 
 def first_of_all(shape, row):
@@ -92,15 +89,10 @@ class StandsTest(unittest.TestCase):
             self.assertEqual(shape_at(TWELVE, places), shape)
 
 
-class AskedAgainTest(Refusing, unittest.TestCase):
+class AskedAgainTest(Asking, unittest.TestCase):
 
-    def test_alike_behind_others_and_refused_ones(self):
-        self.assertEqual(stands((1, 3, 2), TWELVE), (0, 1, 3))
-        self.assertIsNone(stands((1, 2, 3), (3, 5, 1, 4, 2)))
-        self.assertEqual(stands((1, 3, 2), TWELVE), (0, 1, 3))
-        self.assert_refused(NoPlaces, shape_at, TWELVE, (12,))
-        self.assertEqual(stands((1, 3, 2), TWELVE), (0, 1, 3))
-        self.assertIsNone(stands((1, 2, 3), (3, 5, 1, 4, 2)))
+    QUESTIONS = [(stands, (1, 3, 2), TWELVE), (stands, (1, 2, 3), (3, 5, 1, 4, 2))]
+    REFUSED = [(NoPlaces, shape_at, TWELVE, (12,))]
 
 
 if __name__ == "__main__":

@@ -2,6 +2,12 @@
 
 BIG = 10 ** 60 - 1
 
+FORTY = tuple(range(1, 41))
+# An unbroken row of forty numbers.
+ZIGZAG_FORTY = tuple(range(2, 41, 2)) + tuple(range(1, 40, 2))
+# No two neighbours in worth stand side by side.
+MIXED_FORTY = tuple((7 * place) % 41 for place in range(1, 41))
+
 
 def nested(kind, depth):
     """A list or a tuple with others within one another, so deep."""
@@ -33,3 +39,11 @@ def tuples_of_others():
     behind = [(0, thing) for thing in no_wholes()]
     ahead = [(thing, 1) for thing in no_wholes()]
     return alone + behind + ahead
+
+
+def any_things():
+    """Things of every kind, none of them a row, a tree or a shelf."""
+    return no_tuples() + tuples_of_others() + [
+        ((1, 2),), ((1,), (2,)), ((), ()), ("",), (None, None), (True, True), ("1", "2"),
+        nested(tuple, 89) + (1,), (nested(list, 89),), ((),) * 5000, ("one",) * 5000, (("one",),) * 5000,
+    ]
