@@ -94,3 +94,23 @@ def trees_with(size):
                         found.append((head, parts))
                 found.extend(("shape", row, parts) for row in shapes)
     return tuple(found)
+
+
+@functools.lru_cache(maxsize=None)
+def unbroken_within(row):
+    """The unbroken rows that stand in a row, as a set: those of all rows with one number taken out, and it too."""
+    own = {row} if unbroken(row) else set()
+    if len(row) <= 4:
+        return frozenset(own)
+    shorter = {shape_of(row[:place] + row[place + 1:]) for place in range(len(row))}
+    return frozenset(own.union(*[unbroken_within(other) for other in shorter]))
+
+
+def of_class(shelf, row):
+    """Whether no unbroken row stands in the row that isn't on the shelf."""
+    return unbroken_within(row) <= set(shelf)
+
+
+def closed(rows):
+    """The rows and all unbroken ones that stand in them, in the order of sizes: a tuple."""
+    return tuple(in_order_of_sizes(shape for row in rows for shape in unbroken_within(row)))
