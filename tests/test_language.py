@@ -31,7 +31,11 @@ METHODS = set("""
     append clear copy count endswith extend find get index insert isalnum isalpha isdigit islower isspace isupper items
     join keys ljust lower lstrip partition pop remove replace reverse rfind rjust rpartition rsplit rstrip setdefault
     split splitlines startswith strip update upper values zfill bit_length add discard sort
+    title capitalize swapcase casefold center expandtabs removeprefix removesuffix rindex isascii isdecimal isnumeric
+    istitle isidentifier isprintable translate
 """.split())
+
+DOUBLE_UNDERSCORE_METHODS = ("__init__",)
 
 # What may be handed a set that is written on the spot; and what is iterated on the spot, not stored.
 TAKE_SETS = ("sorted", "len")
@@ -52,6 +56,23 @@ def trees():
 
 def nodes(kind):
     return [(name, node) for name, tree in trees() for node in ast.walk(tree) if isinstance(node, kind)]
+
+
+def own_methods():
+    return {row.name for _, node in nodes(ast.ClassDef) for row in node.body if isinstance(row, ast.FunctionDef)}
+
+
+def own_attributes():
+    return {node.attr for _, node in nodes(ast.Attribute) if isinstance(node.ctx, ast.Store)}
+
+
+def local_names(function):
+    """The parameters, local variables and nested functions of a function."""
+    inner = list(ast.walk(function))[1:]
+    names = [node.arg for node in inner if isinstance(node, ast.arg)]
+    names += [node.id for node in inner if isinstance(node, ast.Name) and isinstance(node.ctx, ast.Store)]
+    names += [node.name for node in inner if isinstance(node, (ast.FunctionDef, ast.MatchAs)) and node.name]
+    return names
 
 
 def bound_names(tree):
@@ -151,10 +172,11 @@ class CodeTest(unittest.TestCase):
     def test_l12_l15_l17_bound_names(self):
         for name, tree in trees():
             for bound in bound_names(tree):
+                if bound in DOUBLE_UNDERSCORE_METHODS:
+                    continue
                 self.assertNotIn(bound, BARRED_NAMES, name)
                 self.assertFalse(hasattr(builtins, bound), (name, bound))
-                if not bound.endswith("__"):
-                    self.assertRegex(bound, r"^[A-Za-z]\w*$", name)
+                self.assertRegex(bound, r"^[A-Za-z]\w*$", name)
 
     def test_l15_one_binding_at_module_level(self):
         for name, tree in trees():
@@ -162,6 +184,25 @@ class CodeTest(unittest.TestCase):
                      for name in bound_names(row)]
             bound += [row.name for row in tree.body if isinstance(row, (ast.FunctionDef, ast.ClassDef))]
             self.assertEqual(len(bound), len(set(bound)), name)
+
+    def test_l15_local_names(self):
+        for name, tree in trees():
+            taken = [row.name for row in tree.body if isinstance(row, ast.ClassDef)]
+            taken += [alias.asname or alias.name for row in tree.body if isinstance(row, ast.ImportFrom)
+                      for alias in row.names]
+            for node in ast.walk(tree):
+                if isinstance(node, ast.FunctionDef):
+                    self.assertFalse(set(local_names(node)) & set(taken), (name, node.name))
+
+    def test_l18_methods_and_attributes(self):
+        self.assertFalse(own_methods() & own_attributes())
+        for name, node in nodes(ast.Attribute):
+            known = own_methods() | own_attributes() | METHODS
+            self.assertIn(node.attr, known, (name, node.lineno))
+
+    def test_l26_names_of_methods_and_attributes(self):
+        builtin = set().union(*[dir(kind) for kind in (str, int, list, dict, set, tuple, bytes)])
+        self.assertFalse((own_methods() | own_attributes()) & builtin - set(DOUBLE_UNDERSCORE_METHODS))
 
     def test_l23_nothing_iterated_is_stored(self):
         for name, node in nodes((ast.Assign, ast.Return)):
@@ -182,7 +223,7 @@ class CodeTest(unittest.TestCase):
     def test_l25_methods(self):
         for name, node in nodes(ast.Call):
             if isinstance(node.func, ast.Attribute):
-                self.assertIn(node.func.attr, METHODS, (name, node.lineno))
+                self.assertIn(node.func.attr, METHODS | own_methods(), (name, node.lineno))
                 self.assertFalse(node.keywords, (name, node.lineno))
 
     def test_l20_is(self):
