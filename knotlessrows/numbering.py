@@ -95,7 +95,9 @@ class Numbers:
         """The number of a rise, or a fall, of these parts among these."""
         first = self.number_of_tree(parts[0])
         first_size = size_of(parts[0])
-        if head == "rise" or first >= self.rises[first_size]:
+        # What is no such line itself is numbered with these left out. Only a rise at the head of a fall
+        # stands ahead of all that is left out, so its number stays.
+        if first >= self.rises[first_size]:
             first -= self.rises[first_size]
         behind = parts[1] if len(parts) == 2 else (head, parts[1:])
         pair = (first_size, first, self.number_of_tree(behind))

@@ -196,8 +196,8 @@ class CodeTest(unittest.TestCase):
 
     def test_l18_methods_and_attributes(self):
         self.assertFalse(own_methods() & own_attributes())
+        known = own_methods() | own_attributes() | METHODS
         for name, node in nodes(ast.Attribute):
-            known = own_methods() | own_attributes() | METHODS
             self.assertIn(node.attr, known, (name, node.lineno))
 
     def test_l26_names_of_methods_and_attributes(self):
@@ -221,9 +221,10 @@ class CodeTest(unittest.TestCase):
                     self.assertIn(node, held, (name, node.lineno))
 
     def test_l25_methods(self):
+        known = own_methods() | METHODS
         for name, node in nodes(ast.Call):
             if isinstance(node.func, ast.Attribute):
-                self.assertIn(node.func.attr, METHODS | own_methods(), (name, node.lineno))
+                self.assertIn(node.func.attr, known, (name, node.lineno))
                 self.assertFalse(node.keywords, (name, node.lineno))
 
     def test_l20_is(self):
